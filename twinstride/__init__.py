@@ -1,0 +1,1 @@
+"""Twinstride: two runs held against one another till the cause is told."""
