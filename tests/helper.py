@@ -1,6 +1,7 @@
 """What several tests need: plans made by number, and another way to run them."""
 
 import random
+from collections import Counter
 from itertools import islice
 
 NAMES = ("a", "b", "cc", "wheel")
@@ -119,3 +120,287 @@ def run_otherwise(plan, stand, most):
     if next(coming, None) is not None:
         return steps, None
     return steps, tuple(numbers[name] for name in names)
+
+
+def names_set(rows):
+    """The names that rows set, a set."""
+    found = set()
+    for word, x, *rest in rows:
+        if word == "if":
+            found |= names_set(rest[0]) | names_set(rest[1])
+        elif word == "again":
+            found |= names_set(rest[0])
+        else:
+            found.add(x)
+    return found
+
+
+class Sources:
+    """What each step of a run comes from and reads, found in another way: one set of places and things a step."""
+
+    def __init__(self, plan, stand, most):
+        self.plan = plan
+        self.numbers = dict(zip(plan[1], stand[0]))
+        self.pieces = stand[1]
+        self.origins = {name: {name} for name in plan[1]}
+        coming = self.go(plan[3], (), set())
+        self.of = {}
+        self.steps = []
+        for place, number, sources in islice(coming, most):
+            self.of[place] = sources
+            self.steps.append((place, number))
+        self.dry = next(coming, None) is not None
+        if not self.dry:
+            self.of[None] = self.origins[plan[4]]
+
+    def go(self, rows, at, looks):
+        for j, row in enumerate(rows):
+            place = at + (j,)
+            if row[0] == "if":
+                truth = int(self.numbers[row[1]] != 0)
+                yield place, truth, self.origins[row[1]] | looks
+                yield from self.go(row[3 - truth], place + (truth,), {place})
+                self.leave(row, place)
+            elif row[0] == "again":
+                yield from self.go_again(row, place, looks)
+            else:
+                yield self.set(row, place, looks)
+
+    def go_again(self, row, place, looks):
+        ahead = set()
+        turn = 0
+        while True:
+            look = place + (turn,)
+            truth = int(self.numbers[row[1]] != 0)
+            yield look, truth, self.origins[row[1]] | looks | ahead
+            if not truth:
+                break
+            yield from self.go(row[2], look, {look})
+            ahead = {look}
+            turn += 1
+        self.leave(row, look)
+
+    def leave(self, row, look):
+        for name in names_set([row]):
+            self.origins[name] = self.origins[name] | {look}
+
+    def set(self, row, place, looks):
+        word, x, *rest = row
+        got = [self.numbers.get(part) for part in rest]
+        sources = set(looks).union(*(self.origins[part] for part in rest if isinstance(part, str)))
+        if word in ("take", "pick"):
+            piece = rest[0] if word == "take" else got[0] % self.plan[2]
+            sources.add(piece)
+        number = next(steps_of(self.plan[0], [row], (), dict(self.numbers), self.pieces))[1]
+        self.numbers[x] = number
+        self.origins[x] = {place}
+        return place, number, sources
+
+    def froms(self, place):
+        return self.told(self.of[place])
+
+    def told(self, sources):
+        places = sorted(source for source in sources if isinstance(source, tuple))
+        names = [name for name in self.plan[1] if name in sources]
+        return places, names + sorted(source for source in sources if isinstance(source, int))
+
+    def trail(self, place):
+        found = set() if place is None else {place}
+        sources = set(self.of[place])
+        while sources - found:
+            found |= sources
+            for source in list(found):
+                if isinstance(source, tuple):
+                    sources |= self.of[source]
+        return self.told(found)
+
+
+def other_stand(seed, plan, stand, likely=0.5):
+    """Another stand of the plan, with some things unlike; the same for the same seed."""
+    chance = random.Random(seed)
+
+    def other(number):
+        return chance.randrange(plan[0]) if chance.random() < likely else number
+
+    return tuple(map(other, stand[0])), tuple(map(other, stand[1]))
+
+
+def rich_plan(seed):
+    """A plan and a stand of it, with more names and pieces; the same for the same seed."""
+    chance = random.Random(seed)
+    m = chance.choice((2, 3, 5, 10))
+    many = chance.choice((0, 2, 5))
+    names = ("b", "a", "dd", "c", "mark")[: chance.randint(2, 5)]
+    rows = made_rows(chance, m, names, many, 0, [chance.randint(3, 30)])
+    numbers = tuple(chance.randrange(m) for _ in names)
+    pieces = tuple(chance.randrange(m) for _ in range(many))
+    return (m, names, many, rows, chance.choice(names)), (numbers, pieces)
+
+
+def made_pairs(seeds, most):
+    """Plans with two stands each whose runs aren't dry, and have unlike marks where that was soon found."""
+    for seed in seeds:
+        plan, one = rich_plan(seed)
+        found = None
+        if run_otherwise(plan, one, most)[1] is None:
+            continue
+        for number in range(12):
+            other = other_stand(100 * seed + number, plan, one, 0.7)
+            if run_otherwise(plan, other, most)[1] is not None:
+                found = other
+                if marked_otherwise(plan, one, most) != marked_otherwise(plan, other, most):
+                    break
+        if found is not None:
+            yield plan, one, found
+
+
+def marked_otherwise(plan, stand, most):
+    """What mark must tell, found in another way."""
+    end = run_otherwise(plan, stand, most)[1]
+    return None if end is None else end[plan[1].index(plan[4])]
+
+
+def made_cases(seeds, most):
+    """Cases by number, of these seeds those that make one."""
+    for plan, one, other in made_pairs(seeds, most):
+        if marked_otherwise(plan, one, most) != marked_otherwise(plan, other, most):
+            yield plan, one, other, most
+
+
+def unlike_otherwise(plan, one, other):
+    """What unlike must tell, found in another way."""
+    names = [name for name, a, b in zip(plan[1], one[0], other[0]) if a != b]
+    return names + [piece for piece in range(plan[2]) if one[1][piece] != other[1][piece]]
+
+
+def all_mixes(case):
+    """All mixes of a case."""
+    mixes = [[]]
+    for thing in unlike_otherwise(*case[:3]):
+        mixes += [mix + [thing] for mix in mixes]
+    return mixes
+
+
+def stand_otherwise(case, mix):
+    """What mixed must tell, found in another way."""
+    plan, sound, faulty, _ = case
+    numbers = [faulty[0][i] if name in mix else sound[0][i] for i, name in enumerate(plan[1])]
+    return tuple(numbers), tuple(faulty[1][i] if i in mix else sound[1][i] for i in range(plan[2]))
+
+
+def taken_otherwise(plan, rows):
+    """The pieces that rows may take, a set."""
+    words = [part for row in rows for part in depths(row) if isinstance(part, tuple) and part[:1] in (("take",), ("pick",))]
+    if any(word[0] == "pick" for word in words):
+        return set(range(plan[2]))
+    return {word[2] for word in words}
+
+
+class Mixes:
+    """All mixes of a case gone along one by one: the state of each at each moment, and the faulty pieces first read
+    by each row; dry is the first moment whose row is too long for some mix, or None."""
+
+    def __init__(self, case):
+        self.case = case
+        plan, sound, faulty, most = case
+        self.moments = len(plan[3]) + 1
+        self.unlike = unlike_otherwise(plan, sound, faulty)
+        self.mixes = all_mixes(case)
+        self.ways = [self.way(mix) for mix in self.mixes]
+        dry = [len(way) - 1 for way in self.ways if len(way) < self.moments]
+        self.dry = min(dry, default=None)
+
+    def way(self, mix):
+        """A list of (state, faulty pieces first read by the row ahead), as far as no row is too long."""
+        plan, _, _, most = self.case
+        numbers, pieces = stand_otherwise(self.case, mix)
+        known = set()
+        told = [((numbers, ()), 0)]
+        for k, row in enumerate(plan[3]):
+            sources = Sources(plan[:3] + ((row,), plan[4]), (numbers, pieces), most)
+            if sources.dry:
+                break
+            read = {thing for of in sources.of.values() for thing in of if thing in self.unlike and isinstance(thing, int)}
+            numbers = tuple(sources.numbers[name] for name in plan[1])
+            later = taken_otherwise(plan, plan[3][k + 1:])
+            faulty = [piece for piece in read - known if piece in mix]
+            known |= read
+            kept = tuple((piece, pieces[piece]) for piece in sorted(known & later))
+            told.append(((numbers, kept), len(faulty)))
+        return told
+
+    def layers(self):
+        """What layers must tell, where nothing is refused."""
+        return [sorted(Counter(way[k][0] for way in self.ways).items()) for k in range(self.moments)]
+
+    def most_states(self, until=None):
+        """The most states that a layer has, of those at the first moments."""
+        return max(len({way[k][0] for way in self.ways}) for k in range(self.moments)[:until])
+
+    def mark_at_end(self, way):
+        return way[-1][0][0][self.case[0][1].index(self.case[0][4])]
+
+    def faulty_mark(self):
+        return self.mark_at_end(self.ways[-1])
+
+    def fewest(self):
+        """How few faulty things make the faulty mark."""
+        marks = [self.mark_at_end(way) for way in self.ways]
+        return min(len(mix) for mix, mark in zip(self.mixes, marks) if mark == marks[-1])
+
+    def bears(self, number, worths):
+        """Whether worths of the right form bear out a number, as point 21 has it."""
+        held = [dict(part) for part in worths]
+        for mix, way in zip(self.mixes, self.ways):
+            names = len([thing for thing in mix if isinstance(thing, str)])
+            first = held[0][way[0][0]]
+            last = held[-1][way[-1][0]]
+            if first is not None and first + names < number:
+                return False
+            if (last, type(last)) != ((0, int) if self.mark_at_end(way) == self.faulty_mark() else (None, type(None))):
+                return False
+            for k in range(self.moments - 1):
+                here, behind = held[k][way[k][0]], held[k + 1][way[k + 1][0]]
+                if behind is not None and (here is None or behind < here - way[k + 1][1]):
+                    return False
+        return True
+
+
+def spoil(told):
+    """Change every list in what was told."""
+    for part in list(told) if isinstance(told, (tuple, list)) else []:
+        spoil(part)
+    if isinstance(told, list):
+        told.reverse()
+        told.append("spoilt")
+
+
+def depths(told):
+    """All that lies in what was told, and itself."""
+    yield told
+    for part in told if isinstance(told, (tuple, list)) else ():
+        yield from depths(part)
+
+
+class TellsAnew:
+    """For tests: a call keeps and changes nothing, and its lists are the asker's own."""
+
+    def tells_anew(self, call, *handed):
+        kept = repr(handed)
+        told = call(*handed)
+        words = repr(told)
+        self.assertEqual(repr(handed), kept)
+        self.assertTrue({type(part) for part in depths(told)} <= {tuple, list, int, str, bool, type(None)})
+        spoil(told)
+        self.assertEqual(repr(handed), kept)
+        self.assertEqual(repr(call(*handed)), words)
+
+
+# Things of every sort that are told to be nothing special, and some at greater depth.
+ANY_THINGS = (
+    None, True, False, 0, 1, -1, 7, 10 ** 59, -(10 ** 59), "", "a", "ask", "end", "x y", (), [], (None,), [None], ((),), [[]],
+    (True,), (0,), [0], ("a",), ["a"], ("a", []), ("a", ()), ["a", []], ("a", [()]), ("a", [[]]), ("a", [(0,)]), ("a", [[0]]),
+    (0, [(0,)]), (True, []), (None, []), (None, None), ("end", 0), ("end", True), ("end", None), ("end",), ["end", 0],
+    ("end", 0, 0), ("ask", "a", ("end", 0), ("end", 1)), ("ask", 0, ("end", 0), ("end", 1)), ("ask",), ("ask", "a", 0, 1),
+    ([[[[[[[[[[[[0]]]]]]]]]]]]), ((((((((((((0,),),),),),),),),),),),), [()] * 9, (((), ()), None), [((((),), ()), 0)],
+)

@@ -177,6 +177,50 @@ def of_names(node, own):
             yield "L25"
 
 
+def of_the_whole(texts):
+    """The rules that files break together: texts by their names, without the ending."""
+    trees = {name: ast.parse(text) for name, text in texts.items()}
+    drawn = {name: {} for name in trees}
+    methods, values = set(), set()
+    for name, tree in trees.items():
+        for node in ast.walk(tree):
+            if isinstance(node, ast.ImportFrom) and (node.module or "").startswith("twinstride."):
+                drawn[name].setdefault(node.module.split(".", 1)[1], []).extend(alias.name for alias in node.names)
+            if isinstance(node, ast.ClassDef):
+                here = [part.name for part in node.body if isinstance(part, ast.FunctionDef)]
+                methods.update(here)
+                if len(set(here)) != len(here):
+                    yield "L18"
+            if isinstance(node, ast.Attribute) and isinstance(node.ctx, ast.Store):
+                values.add(node.attr)
+    if methods & values:
+        yield "L18"
+    if values & KIND_METHODS - {"count", "index", "title", "find", "get", "join", "lower", "upper", "split", "strip", "copy", "add"}:
+        yield "L26"
+    for name in drawn:
+        reached = set(drawn[name])
+        while any(set(drawn.get(other, ())) - reached for other in reached):
+            reached = reached.union(*(drawn.get(other, ()) for other in reached))
+        if name in reached:
+            yield "L16"
+        for other, wanted in drawn[name].items():
+            defined = {part.name for part in trees[other].body if hasattr(part, "name")} if other in trees else set()
+            if set(wanted) - defined:
+                yield "L16"
+
+
+BROKEN_TOGETHER = {
+    "L16": [
+        {"a": "from twinstride.b import f\n\n\ndef g():\n    f()", "b": "from twinstride.a import g\n\n\ndef f():\n    g()"},
+        {"a": "from twinstride.b import g", "b": "from twinstride.c import g", "c": "def g():\n    pass"},
+    ],
+    "L18": [
+        {"a": "class A:\n    def f(self):\n        self.g = 1\n\n    def g(self):\n        pass"},
+        {"a": "class A:\n    def f(self):\n        pass\n\n    def f(self):\n        pass"},
+    ],
+    "L26": [{"a": "class A:\n    def f(self):\n        self.items = 1"}],
+}
+
 BROKEN = {
     "L2": ["import sys", "from os import path", "from . import plans", "from twinstride.plans import *"],
     "L3": ["print(1)", "x = len([])", "if 1:\n    x = 1"],
@@ -206,6 +250,16 @@ class LanguageTest(unittest.TestCase):
         for path in sorted(PACKAGE.glob("*.py")):
             with self.subTest(path.name):
                 self.assertEqual(faults(path.read_text(encoding="utf-8")), [])
+
+    def test_the_files_keep_to_the_rules_together(self):
+        texts = {path.stem: path.read_text(encoding="utf-8") for path in PACKAGE.glob("*.py")}
+        self.assertEqual(list(of_the_whole(texts)), [])
+
+    def test_rules_broken_together_are_seen(self):
+        for rule, wholes in BROKEN_TOGETHER.items():
+            for texts in wholes:
+                with self.subTest(rule=rule, texts=texts):
+                    self.assertIn(rule, list(of_the_whole(texts)))
 
     def test_nothing_else_lies_in_the_package(self):
         for path in PACKAGE.iterdir():

@@ -1,4 +1,4 @@
-"""What a plan is, and what its rows set and may take.
+"""What a plan is, and what its rows read, set and may take.
 
 A plan is a tuple (m, names, many, rows, mark).
 """
@@ -113,6 +113,15 @@ def rows_within(row):
     if row[0] == "again":
         return [row[2]]
     return []
+
+
+def names_read(row):
+    """Tell the names that a row reads when it does its step; an if's and an again's step is a look."""
+    if row[0] == "if" or row[0] == "again":
+        return [row[1]]
+    if row[0] == "put" or row[0] == "take":
+        return []
+    return list(row[2:])
 
 
 def setting_rows(rows):

@@ -10,8 +10,7 @@ class Walk:
     """A run on its way: the names' numbers as they are now, and the steps done."""
 
     def __init__(self, plan, stand, most):
-        self.wheel = plan[0]
-        self.many = plan[2]
+        self.plan = plan
         self.numbers = dict(zip(plan[1], stand[0]))
         self.pieces = stand[1]
         self.most = most
@@ -61,7 +60,7 @@ def do_row(walk, row, place):
     elif row[0] == "again":
         do_again(walk, row, place)
     else:
-        number = number_of(walk, row)
+        number = number_of(walk.plan, walk.numbers, walk.pieces, row)
         walk.note_step(place, number)
         walk.numbers[row[1]] = number
 
@@ -80,17 +79,23 @@ def do_again(walk, row, place):
         turn += 1
 
 
-def number_of(walk, row):
-    """Tell the number that the x of a row becomes."""
-    word = row[0]
-    if word == "put":
+def number_of(plan, numbers, pieces, row):
+    """Tell the number that the x of a row becomes, by the numbers of names and of pieces."""
+    if row[0] == "put":
         return row[2]
-    if word == "take":
-        return walk.pieces[row[2]]
-    y = walk.numbers[row[2]]
-    if word == "pick":
-        return walk.pieces[y % walk.many]
-    return joined(word, y, walk.numbers[row[3]], walk.wheel)
+    piece = piece_read(plan, numbers, row)
+    if piece is not None:
+        return pieces[piece]
+    return joined(row[0], numbers[row[2]], numbers[row[3]], plan[0])
+
+
+def piece_read(plan, numbers, row):
+    """Tell the piece that a row reads, by the numbers of names; None where it reads none."""
+    if row[0] == "take":
+        return row[2]
+    if row[0] == "pick":
+        return numbers[row[2]] % plan[2]
+    return None
 
 
 def joined(word, y, z, wheel):
