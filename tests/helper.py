@@ -288,6 +288,121 @@ def stand_otherwise(case, mix):
     return tuple(numbers), tuple(faulty[1][i] if i in mix else sound[1][i] for i in range(plan[2]))
 
 
+def verdict_otherwise(case, mix):
+    """What verdict must tell, found in another way."""
+    return verdicts_of(case, [mix])[tuple(mix)]
+
+
+def verdicts_otherwise(case, things=None):
+    """The verdicts of all mixes, or of all that are of these things, each by a run of its own: a dict by tuples."""
+    return verdicts_of(case, all_mixes(case) if things is None else subsets(things))
+
+
+def verdicts_of(case, mixes):
+    """The verdicts of mixes, a dict by tuples."""
+    plan, sound, faulty, most = case
+    words = {marked_otherwise(plan, sound, most): "sound", marked_otherwise(plan, faulty, most): "faulty"}
+    marks = [marked_otherwise(plan, stand_otherwise(case, mix), most) for mix in mixes]
+    return {tuple(mix): words.get(mark, "other") for mix, mark in zip(mixes, marks)}
+
+
+def subsets(things):
+    """All tuples of some of the things, in their order, by their numbers' lists."""
+    told = [()]
+    for thing in reversed(things):
+        told = [()] + [(thing,) + rest for rest in told] + told[1:]
+    return told
+
+
+def least(sets):
+    """Of tuples those that have none of the others within them, as lists, in the order in which they come."""
+    held = [(one, frozenset(one)) for one in sets]
+    return [list(one) for one, all_of in held if not any(other < all_of for _, other in held)]
+
+
+def asked_in(tree):
+    """The things that a tree asks, a set."""
+    if tree[0] == "end":
+        return set()
+    return {tree[1]} | asked_in(tree[2]) | asked_in(tree[3])
+
+
+def great_cases(seeds, most=60):
+    """Cases of thirty to fifty-two unlike things, of which few rows read few; of these seeds those that make one."""
+    for seed in seeds:
+        chance = random.Random(seed)
+        m = chance.choice((2, 3, 10))
+        names = tuple("lkjihgfedcba")
+        rows = made_rows(chance, m, names[:4], 40, 0, [chance.randint(2, 9)])
+        plan = (m, names, 40, rows, chance.choice(names[:4]))
+        alike = set(chance.sample(range(4, 52), chance.choice((0, 0, 5, 22))))
+        sound = [chance.randrange(m) for _ in range(52)]
+        faulty = [n if i in alike else (n + chance.randint(1, m - 1)) % m for i, n in enumerate(sound)]
+        one, other = [(tuple(part[:12]), tuple(part[12:])) for part in (sound, faulty)]
+        marks = [marked_otherwise(plan, stand, most) for stand in (one, other)]
+        if None not in marks and marks[0] != marks[1]:
+            yield plan, one, other, most
+
+
+def busy_cases(seeds, most=60):
+    """Cases of few things, all unlike, most of which matter; of these seeds those that make one."""
+    for seed in seeds:
+        chance = random.Random(seed)
+        m = chance.choice((2, 2, 3))
+        names = ("b", "a", "d", "c")
+        rows = []
+        for number in range(chance.randint(5, 12)):
+            x, y, z = [chance.choice(names) for _ in range(3)]
+            word = chance.choice(("sum", "by", "by", "less", "same", "take", "take", "pick", "if"))
+            short = {"take": ("take", x, chance.randrange(4)), "pick": ("pick", x, y)}
+            branch = (("by", y, y, z),), (("take", z, number % 4),)
+            short["if"] = ("if", x, *(branch if chance.random() < 0.5 else branch[::-1]))
+            rows.append(short.get(word, (word, x, y, z)))
+        if chance.random() < 0.3:
+            rows.append(("again", "c", (("less", "c", "a", "c"), ("take", "a", 1))))
+        plan = (m, names, 4, tuple(rows), "a")
+        sound = [chance.randrange(m) for _ in range(8)]
+        faulty = [(number + chance.randint(1, m - 1)) % m for number in sound]
+        one, other = [(tuple(part[:4]), tuple(part[4:])) for part in (sound, faulty)]
+        marks = [marked_otherwise(plan, stand, most) for stand in (one, other)]
+        if None not in marks and marks[0] != marks[1]:
+            yield plan, one, other, most
+
+
+def threshold_case(many, needed, most=3000):
+    """A case of so many pieces that goes wrong where so many of them, or more, are faulty; the tree asks all."""
+    rows = [("put", "a", 0)]
+    for piece in range(many):
+        rows += [("take", "b", piece), ("sum", "a", "a", "b")]
+    rows += [("put", "b", needed), ("less", "a", "a", "b")]
+    plan = plan_of(rows, m=997, many=many)
+    return plan, ((0, 0, 0), (0,) * many), ((0, 0, 0), (1,) * many), most
+
+
+def weighed_case(value):
+    """A case of eleven pieces and 1024 ends, and two ends more for each value of the first nine below the given one."""
+    rows = [("put", "a", 0)]
+    for piece in range(9):
+        rows += [("take", "b", piece), ("sum", "a", "a", "b")]
+    rows += [("put", "b", value), ("less", "b", "a", "b"), ("take", "c", 9), ("if", "b", (("take", "b", 10),), ())]
+    plan = plan_of(rows, m=997, many=11)
+    return plan, ((0, 0, 0), (0,) * 11), ((0, 0, 0), tuple(2 ** i for i in range(9)) + (1, 1)), 3000
+
+
+def lone_cases(count):
+    """Cases of so many unlike things: for each of them one in which just the mixes with this one are faulty."""
+    names = tuple("abcdefghijkl")
+    for first in (names, tuple(range(40))):
+        rest = tuple(range(40)) if first == names else names
+        chosen = (first + rest)[:count]
+        for thing in chosen:
+            rows = () if isinstance(thing, str) else (("take", "b", thing),)
+            plan = (2, names, 40, rows, thing if isinstance(thing, str) else "b")
+            numbers = tuple(int(name in chosen) for name in names)
+            pieces = tuple(int(piece in chosen) for piece in range(40))
+            yield (plan, ((0,) * 12, (0,) * 40), (numbers, pieces), 9), thing
+
+
 def taken_otherwise(plan, rows):
     """The pieces that rows may take, a set."""
     words = [part for row in rows for part in depths(row) if isinstance(part, tuple) and part[:1] in (("take",), ("pick",))]
