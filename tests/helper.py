@@ -389,6 +389,16 @@ def weighed_case(value):
     return plan, ((0, 0, 0), (0,) * 11), ((0, 0, 0), tuple(2 ** i for i in range(9)) + (1, 1)), 3000
 
 
+def case_of_ends(ends):
+    """A case of nine pieces and just so many ends, from 256 to 512: the ninth is read where the value of the others
+    lies below ends - 256."""
+    rows = [("put", "a", 0)]
+    for piece in range(8):
+        rows += [("take", "b", piece), ("sum", "a", "a", "b")]
+    rows += [("put", "b", ends - 256), ("less", "b", "a", "b"), ("if", "b", (("take", "b", 8),), ())]
+    return plan_of(rows, m=997, many=9), ((0,) * 3, (0,) * 9), ((0,) * 3, tuple(2 ** i for i in range(8)) + (1,)), 900
+
+
 def lone_cases(count):
     """Cases of so many unlike things: for each of them one in which just the mixes with this one are faulty."""
     names = tuple("abcdefghijkl")

@@ -3,7 +3,7 @@ import unittest
 from itertools import combinations
 
 from tests.helper import (
-    ANY_THINGS, TellsAnew, asked_in, busy_cases, great_cases, least, lone_cases, made_cases, plan_of, subsets, threshold_case,
+    ANY_THINGS, TellsAnew, asked_in, busy_cases, case_of_ends, great_cases, least, lone_cases, made_cases, plan_of, subsets, threshold_case,
     unlike_otherwise, verdict_otherwise, verdicts_otherwise, weighed_case,
 )
 from twinstride.causes import are_causes, fewest, least_causes, least_remedies
@@ -196,17 +196,9 @@ class ManyPiecesTest(unittest.TestCase):
         self.assertEqual(fewest(threshold_case(8, 2)), [0, 1])
         # Five hundred ends, and one more.
         for call in (fewest, least_causes, least_remedies):
-            self.assertTrue(call(self.case_of_ends(500)))
+            self.assertTrue(call(case_of_ends(500)))
             with self.assertRaises(TooMany):
-                call(self.case_of_ends(501))
-
-    def case_of_ends(self, ends):
-        """Eight pieces are weighed; the ninth is read where their value lies below ends - 256."""
-        rows = [("put", "a", 0)]
-        for piece in range(8):
-            rows += [("take", "b", piece), ("sum", "a", "a", "b")]
-        rows += [("put", "b", ends - 256), ("less", "b", "a", "b"), ("if", "b", (("take", "b", 8),), ())]
-        return plan_of(rows, m=997, many=9), ((0,) * 3, (0,) * 9), ((0,) * 3, tuple(2 ** i for i in range(8)) + (1,)), 900
+                call(case_of_ends(501))
 
 
 class AreCausesTest(unittest.TestCase):

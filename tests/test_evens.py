@@ -1,7 +1,7 @@
 import unittest
 
 from tests.helper import (
-    TellsAnew, asked_in, busy_cases, great_cases, least, lone_cases, made_cases, plan_of, subsets, threshold_case,
+    TellsAnew, asked_in, busy_cases, case_of_ends, great_cases, least, lone_cases, made_cases, plan_of, subsets, threshold_case,
     unlike_otherwise, verdict_otherwise, verdicts_otherwise, weighed_case,
 )
 from twinstride.causes import least_causes, least_remedies
@@ -132,8 +132,8 @@ class RefusedTest(unittest.TestCase):
         with self.assertRaises(TooMany):
             even(weighed_case(489), 2000)
         with self.assertRaises(TooMany):
-            even(threshold_case(9, 2))
-        self.assertEqual(even(threshold_case(8, 2)), ("even",))
+            even(case_of_ends(501))
+        self.assertEqual(even(case_of_ends(500)), ("even",))
 
     def test_no_case_goes_first(self):
         wrong = [(plan_of([]), SOUND, SOUND, 30), (plan_of([("again", "a", ())]), SOUND, FAULTY, 30)]

@@ -177,6 +177,15 @@ def of_names(node, own):
             yield "L25"
 
 
+def names_of(tree):
+    """The names that a file defines itself."""
+    for part in tree.body:
+        if isinstance(part, (ast.FunctionDef, ast.ClassDef)):
+            yield part.name
+        elif isinstance(part, ast.Assign):
+            yield from [target.id for target in part.targets]
+
+
 def of_the_whole(texts):
     """The rules that files break together: texts by their names, without the ending."""
     trees = {name: ast.parse(text) for name, text in texts.items()}
@@ -204,7 +213,7 @@ def of_the_whole(texts):
         if name in reached:
             yield "L16"
         for other, wanted in drawn[name].items():
-            defined = {part.name for part in trees[other].body if hasattr(part, "name")} if other in trees else set()
+            defined = set(names_of(trees[other])) if other in trees else set()
             if set(wanted) - defined:
                 yield "L16"
 

@@ -1,7 +1,7 @@
 import unittest
 
 from tests.helper import (
-    TellsAnew, all_mixes, busy_cases, made_cases, made_plan, marked_otherwise, plan_of, run_otherwise,
+    TellsAnew, all_mixes, busy_cases, case_of_ends, made_cases, made_plan, marked_otherwise, plan_of, run_otherwise,
     stand_otherwise, subsets, threshold_case, unlike_otherwise, verdicts_otherwise, within,
 )
 from twinstride.errors import NoCase, NoMoment, TooMany
@@ -170,9 +170,11 @@ class CausesAtTest(unittest.TestCase):
                 with self.assertRaises(TooMany):
                     call(limit)
         with self.assertRaises(TooMany):
-            causes_at(threshold_case(9, 2))
+            causes_at(case_of_ends(501))
         with self.assertRaises(TooMany):
-            narrow(threshold_case(9, 2), 1)
+            narrow(case_of_ends(501), 1)
+        self.assertEqual(len(causes_at(case_of_ends(500))), 21)
+        self.assertEqual(len(narrow(case_of_ends(500), 9)), 21)
         self.assertEqual(len(causes_at(threshold_case(9, 2), 512)), 22)
 
     def test_too_many_at_a_later_moment_alone(self):
@@ -224,7 +226,8 @@ class MakesFaultTest(unittest.TestCase):
         for k, things, wanted in (
             (0, [], False), (0, ["b", "c", 0], True), (0, ["a", "b", "c", 0, 1, 2], True), (0, ["b", "c"], False),
             (1, ["a", 0], True), (1, ["a"], False), (1, [0], False), (1, ["b", "c", 1, 2], False), (1, [0, "a"], True),
-            (2, ["a", "c"], True), (2, ["c"], False), (2, [0], False), (3, ["b"], True), (3, ["a", "c", 0], False), (3, [], False),
+            (2, ["a", "c"], True), (2, ["c"], False), (2, [0], False), (3, ["b"], True), (3, ["a", "c", 0], False),
+            (3, [], False),
         ):
             self.assertIs(makes_fault(case, k, things), wanted, (k, things))
 

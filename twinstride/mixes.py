@@ -6,7 +6,7 @@ A case is a tuple (plan, sound, faulty, most); a mix is a list of unlike things,
 from twinstride.beside import unlike
 from twinstride.errors import NoCase
 from twinstride.runs import mark
-from twinstride.things import number_in
+from twinstride.things import is_just, number_in
 
 
 def marks(case):
@@ -23,6 +23,11 @@ def marks(case):
 def unlike_of(case):
     """Tell the unlike things of a case's stands, in order."""
     return unlike(case[0], case[1], case[2])
+
+
+def is_mix(things, thing):
+    """Tell of any thing whether it is a mix: a list of some of the unlike things, in order, each once."""
+    return isinstance(thing, list) and is_just(thing, [one for one in things if one in thing])
 
 
 def mixed(case, mix):

@@ -1,6 +1,6 @@
 """Narrowed cases: a cause found by few askings, of which no single thing can be left out."""
 
-from twinstride.mixes import marks, stand_of, unlike_of, verdict_of
+from twinstride.mixes import is_mix, marks, stand_of, unlike_of, verdict_of
 from twinstride.runs import mark
 from twinstride.things import is_just
 
@@ -97,11 +97,6 @@ def has_narrowed_form(things, thing):
 def is_asking(things, thing):
     """Tell of any thing whether it is a tuple of a mix and something, perhaps a verdict."""
     return isinstance(thing, tuple) and len(thing) == 2 and is_mix(things, thing[0])
-
-
-def is_mix(things, thing):
-    """Tell of any thing whether it is a mix: a list of some of the unlike things, in order, each once."""
-    return isinstance(thing, list) and is_just(thing, [one for one in things if one in thing])
 
 
 def is_bare(case, mix):
